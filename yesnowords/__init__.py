@@ -1,0 +1,1 @@
+"""Yesnowords: words made of all values of yes-or-no polynomials."""
