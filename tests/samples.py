@@ -112,3 +112,30 @@ def all_words_by_kind(many, most):
     for at in range(1, 2 ** len(generators)):
         word ^= generators[(at & -at).bit_length() - 1]
         yield word
+
+
+ALL_KINDS = [(many, most) for many in range(1, 7) for most in range(many + 1)]
+
+
+def words_of_kind(kind, count=8):
+    """0, all yes, the words of single terms, and mixed ones of the kind."""
+    many, most = kind
+    single = [word_by_hand(many, [term]) for term in all_terms(many, most)]
+    told = [0, all_of(many)] + single
+    for pick in mixed(6, count, seed=many * 7 + most + 1):
+        word = 0
+        for at, other in enumerate(single):
+            if pick >> at & 1:
+                word ^= other
+        told.append(word)
+    return told
+
+
+def degree_by_hand(many, word):
+    """The degree of a word's polynomial, each term's digit reckoned by all places below it; -1 of 0."""
+    told = -1
+    for term in all_terms(many, many):
+        within = [place for place in range(2 ** many) if place & ~sum(2 ** letter for letter in term) == 0]
+        if sum(word >> place & 1 for place in within) % 2 == 1:
+            told = len(term)
+    return told
