@@ -139,3 +139,78 @@ def degree_by_hand(many, word):
         if sum(word >> place & 1 for place in within) % 2 == 1:
             told = len(term)
     return told
+
+
+def other_numbers(thing):
+    """Things that stand near a whole number, and aren't it."""
+    told = [thing + 1, thing - 1, -thing - 1, thing + 64, thing + 2 ** 64, thing ^ 2, float(thing), str(thing), None]
+    told += [(thing,), [thing], (), "", LikesAll(), Fraught(), thing == 1, thing != 0]
+    return told
+
+
+def other_tuples(thing):
+    """Things that stand near a tuple, its parts as they were, and aren't it."""
+    told = [list(thing), set(map(repr, thing)), thing + (0,), (0,) + thing, thing + (None,), thing + ((),), (thing,)]
+    told += [thing[:at] + thing[at + 1:] for at in range(len(thing))]
+    told += [thing[:at] + thing[at:at + 1] + thing[at:] for at in range(len(thing))]
+    told += [thing[:at] + (thing[at + 1], thing[at]) + thing[at + 2:] for at in range(len(thing) - 1)]
+    told += [thing[::-1], (), None, True, False, 0, 1, "", "()", LikesAll(), Fraught()]
+    return told
+
+
+def otherwise(thing):
+    """Things like this one of whole numbers and tuples, with one thing otherwise somewhere in it."""
+    if type(thing) is int:
+        told = other_numbers(thing)
+    else:
+        told = other_tuples(thing)
+        for at, part in enumerate(thing):
+            told += [thing[:at] + (other,) + thing[at + 1:] for other in otherwise(part)]
+    return [other for other in told if repr(other) != repr(thing)]
+
+
+def some_flats(many, d, count=3, seed=1):
+    """Flats of d directions, some for each choice of their greatest digits, the rest of all digits mixed."""
+    from itertools import combinations
+    told = []
+    for tops in combinations(range(many), d):
+        free = 2 ** many - 1 - sum(2 ** top for top in tops)
+        picks = iter(mixed(6, (d + 1) * count, seed + d))
+        for _ in range(count):
+            directions = tuple(2 ** top | next(picks) & free & 2 ** top - 1 for top in tops)
+            told.append((next(picks) & free, directions))
+    return told
+
+
+def is_place_by_hand(many, thing):
+    """Whether anything is a place."""
+    return type(thing) is int and 0 <= thing < 2 ** many
+
+
+def places_by_hand(flat):
+    """All places of a flat."""
+    place, directions = flat
+    return {place ^ total for total in all_sums(directions)}
+
+
+def sent_by_hand(turning, place):
+    """Where a turning sends a place, digit by digit."""
+    images, shift = turning
+    told = 0
+    for digit in range(6):
+        odd = shift // 2 ** digit + sum(image // 2 ** digit * (place // 2 ** at % 2) for at, image in enumerate(images))
+        told += 2 ** digit * (odd % 2)
+    return told
+
+
+def some_turnings(many, count=6):
+    """The turning that leaves all as it is, shifts, exchanged letters, and mixed ones."""
+    last = 2 ** many - 1
+    still = tuple(2 ** letter for letter in range(many))
+    told = [(still, 0), (still, last), (still, 1), (still[::-1], 0), (still[1:] + still[:1], last // 2)]
+    picks = mixed(6, 4000, seed=many)
+    while len(told) < 5 + count:
+        images = tuple(picks.pop() >> 3 & last for _ in range(many))
+        if len(all_sums(images)) == 2 ** many:
+            told.append((images, picks.pop() >> 3 & last))
+    return told

@@ -35,6 +35,12 @@ def made_of(base, word):
     return tuple([at for at, row in enumerate(base) if says(word, top(row)) == 1])
 
 
+def no_tops(base, size):
+    """The places below size that are the top of none of the base."""
+    tops = [top(row) for row in base]
+    return [place for place in range(size) if place not in tops]
+
+
 def even_at(base, place):
     """The word that is even with each of the base, and says yes at this place and else at tops alone."""
     # A row's own top can be set by itself, for no other row says yes there.
@@ -44,6 +50,4 @@ def even_at(base, place):
 def even_with(many, some):
     """The base of all words of many letters that are even with each of some."""
     base = base_of(some)
-    tops = [top(row) for row in base]
-    free = [place for place in range(1 << many) if place not in tops]
-    return base_of([even_at(base, place) for place in free])
+    return base_of([even_at(base, place) for place in no_tops(base, 1 << many)])

@@ -2,12 +2,12 @@
 
 from yesnowords.errors import NotIn
 from yesnowords.polys import degree, poly_of, word_of
-from yesnowords.words import is_whole
+from yesnowords.words import is_row, is_whole
 
 
 def is_kind(thing):
     """Whether anything is a kind."""
-    if not isinstance(thing, tuple) or len(thing) != 2:
+    if not is_row(thing, 2):
         return False
     many, most = thing
     # Kinds of things first: what isn't a number may not be compared.

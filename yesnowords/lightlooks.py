@@ -1,19 +1,17 @@
 """A look whether a paper shows that a word says yes so often."""
 
-from yesnowords.words import all_yes, halves, is_whole, plus, says
+from yesnowords.words import all_yes, halves, is_place, is_row, plus, says
 
 
 def has_head(thing, size, head):
     """Whether anything is a tuple of so many parts, the first one this text."""
-    if not isinstance(thing, tuple) or len(thing) != size:
-        return False
     # The kind first: a thing of another kind may say that it is equal to a text.
-    return isinstance(thing[0], str) and thing[0] == head
+    return is_row(thing, size) and isinstance(thing[0], str) and thing[0] == head
 
 
 def is_yes_place(many, word, thing):
     """Whether anything is a place at which the word says yes."""
-    return is_whole(thing) and 0 <= thing < (1 << many) and says(word, thing) == 1
+    return is_place(many, thing) and says(word, thing) == 1
 
 
 def shows_light(kind, word, thing):

@@ -7,6 +7,17 @@ def is_whole(thing):
     return isinstance(thing, int) and not isinstance(thing, bool)
 
 
+def is_row(thing, size):
+    """Whether anything is a tuple of so many things."""
+    return isinstance(thing, tuple) and len(thing) == size
+
+
+def is_place(many, thing):
+    """Whether anything is a place of many letters."""
+    # The kind first: what isn't a number may not be compared.
+    return is_whole(thing) and 0 <= thing < (1 << many)
+
+
 def all_yes(many):
     """The word of many letters that says yes at each place."""
     return (1 << (1 << many)) - 1
