@@ -214,3 +214,38 @@ def some_turnings(many, count=6):
         if len(all_sums(images)) == 2 ** many:
             told.append((images, picks.pop() >> 3 & last))
     return told
+
+
+def faults(many, count, seed=1):
+    """A word that says yes at so many mixed places."""
+    picks = mixed(6, 2 ** many, seed)
+    places = sorted(range(2 ** many), key=lambda place: (picks[place] >> 7, place))
+    return sum(2 ** place for place in places[:count])
+
+
+def some_heard(kind):
+    """Words of the kind with no fault, with as many as are still mended, with one or two more; and mixed words."""
+    least = 2 ** (kind[0] - kind[1])
+    told = some_words(kind[0], 6)
+    for at, word in enumerate(words_of_kind(kind, 4)[-6:]):
+        for count in sorted({0, 1, (least - 1) // 2, least // 2, least // 2 + 1}):
+            told.append(word ^ faults(kind[0], count, seed=at + 3))
+    return told
+
+
+def told_or_none(refusal, deed, *given):
+    """What the deed tells, None where it is refused with this very class."""
+    try:
+        return deed(*given)
+    except refusal as error:
+        assert type(error) is refusal
+        return None
+
+
+def near_words(kind, heard):
+    """All words of the kind that are unlike heard in less than half of least(kind) places, gone through one by one."""
+    least = 2 ** (kind[0] - kind[1])
+    return [word for word in all_words_by_kind(*kind) if 2 * (word ^ heard).bit_count() < least]
+
+
+SMALL_KINDS = [kind for kind in ALL_KINDS if len(all_terms(*kind)) <= 8]

@@ -1,7 +1,6 @@
 """The kind beside a kind: all words that are even with each of its words, and checks of them."""
 
-from yesnowords.kinds import terms
-from yesnowords.polys import word_of
+from yesnowords.kinds import term_words
 from yesnowords.words import is_even
 
 
@@ -14,9 +13,7 @@ def beside(kind):
 def checks(kind):
     """The words of the single terms of the kind beside, in order."""
     other = beside(kind)
-    if other is None:
-        return ()
-    return tuple([word_of(other[0], (term,)) for term in terms(other)])
+    return () if other is None else term_words(other)
 
 
 def told_by(kind, word):

@@ -30,6 +30,11 @@ def terms(kind):
     return tuple(told)
 
 
+def term_words(kind):
+    """The words of the single terms of the kind, in order."""
+    return tuple([word_of(kind[0], (term,)) for term in terms(kind)])
+
+
 def how_many(kind):
     """How many words are of the kind."""
     return 1 << len(terms(kind))

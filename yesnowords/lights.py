@@ -1,13 +1,18 @@
 """Light words: in how few places words of a kind are unlike, and papers that show it."""
 
 from yesnowords.polys import word_of
-from yesnowords.words import halves, plus, where
+from yesnowords.words import halves, plus, unlike, where
 
 
 def least(kind):
     """In how many places unlike words of the kind are unlike at least."""
     many, most = kind
     return 1 << (many - most)
+
+
+def is_near(kind, one, other):
+    """Whether both words are unlike in less than half of least(kind) places."""
+    return 2 * unlike(one, other) < least(kind)
 
 
 def near(kind, word):
