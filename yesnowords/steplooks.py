@@ -1,6 +1,6 @@
 """Steps from a word to its polynomial, letter by letter, and a look whether they are these."""
 
-from yesnowords.words import all_yes, is_whole, plus, times
+from yesnowords.words import all_yes, is_number_row, plus, times
 
 
 def letter_no(many, letter):
@@ -26,7 +26,5 @@ def steps(many, word):
 
 def shows_steps(many, word, thing):
     """Whether anything is the steps of the word."""
-    if not isinstance(thing, tuple):
-        return False
     # Kinds first: True would count as 1 beside a number.
-    return all([is_whole(row) for row in thing]) and thing == steps(many, word)
+    return is_number_row(thing) and thing == steps(many, word)

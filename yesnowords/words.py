@@ -12,6 +12,16 @@ def is_row(thing, size):
     return isinstance(thing, tuple) and len(thing) == size
 
 
+def is_number_row(thing):
+    """Whether anything is a tuple of whole numbers."""
+    return isinstance(thing, tuple) and all([is_whole(number) for number in thing])
+
+
+def are_number_rows(thing):
+    """Whether anything is a tuple of tuples of whole numbers."""
+    return isinstance(thing, tuple) and all([is_number_row(row) for row in thing])
+
+
 def is_place(many, thing):
     """Whether anything is a place of many letters."""
     # The kind first: what isn't a number may not be compared.
