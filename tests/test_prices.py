@@ -6,7 +6,7 @@ from tests.samples import (
     ALL_KINDS, SMALL_KINDS, LikesAll, all_of, all_sums, all_terms, all_words_by_kind, degree_by_hand, faults, mixed,
     nested, nested_dict, otherwise, some_words, strange_things, word_by_hand, words_of_kind,
 )
-from yesnowords.errors import NoFit, NoLine, NoMost, NotIn, NoText, TooFar, TooMany, YesNoError
+from yesnowords.errors import TooMany
 from yesnowords.pricelooks import shows_price
 from yesnowords.prices import least_price, nearest_in
 from yesnowords.states import states, states_at
@@ -246,11 +246,6 @@ class LeastPrice(unittest.TestCase):
                 with self.assertRaises(TooMany) as caught:
                     least_price(kind, prices)
                 self.assertIs(type(caught.exception), TooMany)
-
-    def test_too_many_is_of_no_other_class(self):
-        self.assertEqual(TooMany.__mro__[1:3], (YesNoError, ValueError))
-        for other in (NotIn, NoMost, TooFar, NoFit, NoText, NoLine):
-            self.assertFalse(issubclass(TooMany, other) or issubclass(other, TooMany))
 
 
 class NearestIn(unittest.TestCase):

@@ -49,14 +49,6 @@ class Refused(unittest.TestCase):
         self.assertIs(type(caught.exception), errors.NoText)
 
 
-class NoText(unittest.TestCase):
-    def test_what_it_stands_under(self):
-        self.assertEqual(errors.NoText.__mro__[1:3], (errors.YesNoError, ValueError))
-        for other in (errors.NotIn, errors.NoMost, errors.TooFar, errors.NoFit, errors.TooMany, errors.NoLine):
-            self.assertFalse(issubclass(errors.NoText, other))
-            self.assertFalse(issubclass(other, errors.NoText))
-
-
 class PolyText(unittest.TestCase):
     def test_written(self):
         self.assertEqual(poly_text(()), "0")
