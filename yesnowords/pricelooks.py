@@ -1,8 +1,8 @@
 """A look whether a price, a word and a table are the least price of a kind, told so."""
 
+from yesnowords.errors import TooMany
 from yesnowords.kinds import is_in
 from yesnowords.prices import least_sums, price_table
-from yesnowords.states import has_few_states
 from yesnowords.words import are_number_rows, is_row, is_whole, is_word, where
 
 
@@ -19,8 +19,13 @@ def price_of(prices, word):
 def shows_price(kind, prices, thing):
     """Whether anything is the least price of a word of the kind, such a word, and the table of all least sums."""
     # Kinds of things first: True would count as 1 beside a number.
-    if not is_priced(kind[0], thing) or not has_few_states(kind):
+    if not is_priced(kind[0], thing):
         return False
     price, word, table = thing
-    sums = least_sums(kind, prices)
-    return table == price_table(sums) and price == sums[0][0] and is_in(kind, word) and price_of(prices, word) == price
+    if not is_in(kind, word) or price_of(prices, word) != price:
+        return False
+    try:
+        sums = least_sums(kind, prices)
+    except TooMany:
+        return False
+    return price == sums[0][0] and table == price_table(sums)

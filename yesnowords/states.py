@@ -7,6 +7,7 @@ from yesnowords.flats import flat_places
 from yesnowords.kinds import term_words
 from yesnowords.words import plus, says, word_at
 
+# 2 ** 7 is 128: so many states are gone through at most.
 MOST_DIGITS = 7
 
 
@@ -36,17 +37,13 @@ def states(kind):
     return tuple([len(base) for base in state_bases(kind)])
 
 
-def has_few_states(kind):
-    """Whether there are 128 states or fewer at each t."""
-    return max(states(kind)) <= MOST_DIGITS
-
-
 def all_states(kind):
     """For each t the rising tuple of the states of all words of the kind; TooMany where some t has more than 128."""
-    if not has_few_states(kind):
+    bases = state_bases(kind)
+    if max([len(base) for base in bases]) > MOST_DIGITS:
         raise TooMany(f"words of the kind {kind} have more than 128 states")
     # All sums of a base are the places of the flat that comes of 0 by it.
-    return [flat_places((0, base)) for base in state_bases(kind)]
+    return [flat_places((0, base)) for base in bases]
 
 
 def states_at(kind, t):
